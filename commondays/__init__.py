@@ -1,0 +1,1 @@
+"""Commondays: when were two copies last the same?"""

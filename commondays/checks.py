@@ -1,0 +1,33 @@
+"""Checks of single values, which several files need."""
+
+from commondays.errors import InvalidItem, SameItem
+
+
+def is_whole(value):
+    """Whether a value is an integer; True and False are none."""
+    return isinstance(value, int) and not isinstance(value, bool)
+
+
+def is_day(value):
+    """Whether a value is an integer from 0 on."""
+    return is_whole(value) and value >= 0
+
+
+def is_number(value):
+    """Whether a value is a number of items."""
+    return is_whole(value) and value >= 1
+
+
+def is_item(value, many):
+    """Whether a value is one of so many items."""
+    return is_whole(value) and 0 <= value < many
+
+
+def check_items(many, one, other):
+    """Raise an error unless one and other are two of so many items."""
+    if not is_item(one, many):
+        raise InvalidItem()
+    if not is_item(other, many):
+        raise InvalidItem()
+    if one == other:
+        raise SameItem()
