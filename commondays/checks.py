@@ -1,4 +1,4 @@
-"""Checks of single values, which several files need."""
+"""Checks of values, which several files need."""
 
 from commondays.errors import InvalidItem, SameItem
 
@@ -31,3 +31,26 @@ def check_items(many, one, other):
         raise InvalidItem()
     if one == other:
         raise SameItem()
+
+
+def is_pair(value, many):
+    """Whether a value is a tuple of two different ones of so many items."""
+    if not isinstance(value, tuple) or len(value) != 2:
+        return False
+    one, other = value
+    return is_item(one, many) and is_item(other, many) and one != other
+
+
+def is_bound(value, many):
+    """Whether a value is a bound for a pair of so many items."""
+    if not isinstance(value, tuple) or len(value) != 4:
+        return False
+    one, other, low, high = value
+    if not is_pair((one, other), many) or not is_day(low):
+        return False
+    return high is None or (is_day(high) and low <= high)
+
+
+def is_told(value, many):
+    """Whether a value is a tuple of bounds for so many items."""
+    return isinstance(value, tuple) and all([is_bound(bound, many) for bound in value])

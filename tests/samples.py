@@ -1,6 +1,7 @@
-"""Tables, histories and odd values for the tests, made straight from the definitions of the document."""
+"""Tables, histories, bounds and odd values for the tests, made straight from the definitions of the document."""
 
-from itertools import product
+import random
+from itertools import combinations, product
 
 
 class Hostile:
@@ -108,6 +109,99 @@ def large_histories():
     ]
 
 
+def holds(table, bound):
+    one, other, low, high = bound
+    return low <= day(table, one, other) and (high is None or day(table, one, other) <= high)
+
+
+def keeping(candidates, told):
+    """Those of some histories that keep told bounds."""
+    return [table for table in candidates if all(holds(table, bound) for bound in told)]
+
+
+def least_days(candidates):
+    """The least day of each pair in some histories."""
+    many = len(candidates[0])
+    return tuple(tuple(min(table[i][j] for table in candidates) for j in range(i)) for i in range(many))
+
+
+def low_day(told, one, other):
+    """The greatest told low bound of a pair, 0 if there is none."""
+    return max([low for i, j, low, _ in told if {i, j} == {one, other}], default=0)
+
+
+def chain_day(told, chain):
+    return min(low_day(told, one, other) for one, other in zip(chain, chain[1:]))
+
+
+def greatest_chains(many, told):
+    """The greatest day of a chain for each pair, by going over one more item again and again."""
+    best = [[low_day(told, i, j) for j in range(many)] for i in range(many)]
+    for k, i, j in product(range(many), repeat=3):
+        if len({i, j, k}) == 3:
+            best[i][j] = max(best[i][j], min(best[i][k], best[k][j]))
+    return tuple(tuple(best[i][:i]) for i in range(many))
+
+
+def is_kept_by_some(many, told):
+    """Whether the greatest chains leave each told high possible."""
+    best = greatest_chains(many, told)
+    return all(high is None or day(best, one, other) <= high for one, other, _, high in told)
+
+
+def ranges(last):
+    """All (low, high) without a day after last, also those without a high."""
+    return [(low, high) for low in range(last + 1) for high in [*range(low, last + 1), None]]
+
+
+def one_bound_each(many, last):
+    """All told bounds with one bound for each pair and no day after last."""
+    pairs = list(combinations(range(many), 2))
+    for chosen in product(ranges(last), repeat=len(pairs)):
+        yield tuple((*pair, *days) for pair, days in zip(pairs, chosen))
+
+
+def mixed_bounds(many, last, length, count, seed):
+    """Some told bounds with at most this length; pairs may be turned and occur several times."""
+    draw = random.Random(seed)
+    for _ in range(count):
+        yield tuple(
+            (*draw.sample(range(many), 2), *draw.choice(ranges(last))) for _ in range(draw.randint(0, length))
+        )
+
+
+def small_bounds():
+    """Numbers of items from two to four with their last day and with many told bounds."""
+    return [
+        (2, 2, [*one_bound_each(2, 2), *mixed_bounds(2, 2, 4, 100, 1)]),
+        (3, 2, [*one_bound_each(3, 2), *mixed_bounds(3, 2, 6, 300, 2)]),
+        (4, 1, [*one_bound_each(4, 1)][::23]),
+        (4, 2, [*mixed_bounds(4, 2, 8, 400, 3)]),
+    ]
+
+
+def drawn_history(draw, many, last):
+    """A history with days up to last."""
+    drawn = tuple((i, j, draw.randint(0, last), None) for i, j in combinations(range(many), 2) if draw.random() < 0.2)
+    return greatest_chains(many, drawn)
+
+
+def large_possible_bounds(count, seed):
+    """Sixty bounds for twenty items, around the days of a history with days of up to forty digits."""
+    draw = random.Random(seed)
+    for at in range(count):
+        last = [LONG, 9, LONG, 40][at % 4]
+        history = drawn_history(draw, 20, last)
+        told = []
+        for _ in range(60):
+            one, other = draw.sample(range(20), 2)
+            known = day(history, one, other)
+            low = draw.choice([0, known, draw.randint(0, known)])
+            high = draw.choice([None, known, draw.randint(known, LONG)])
+            told.append((one, other, low, high))
+        yield history, tuple(told)
+
+
 NO_TABLES = [
     (), [], [()], [(), (7,)], ([],), ((), [7]), ((), (7,), [3, 3]), ((7,),), ((), ()), ((), (7, 7)), ((), (7,), (3,)),
     ((), (7,), (3, 3, 3)), ((), (7,), ()), ((), (7,), (3, 3), (1, 1)), ((7,), ()), ((), (-1,)), ((), (7,), (3, -3)),
@@ -129,4 +223,58 @@ NO_ITEMS = [3, -1, 4, LONG, -LONG, (), (0,), [], [0], *OTHER_KINDS]
 
 NO_DAYS = [-1, -LONG, (), (0,), [], [0], *OTHER_KINDS]
 
+# For three items.
+NO_PAIRS = [
+    (), (0,), (0, 1, 2), (0, 0), (1, 1), (2, 2), (0, 3), (3, 0), (-1, 0), (0, -1), (LONG, 0), (0, -LONG), [0, 1], [],
+    (True, 0), (0, True), (False, 1), (0.0, 1), (0, 1.0), (None, 0), (0, None), ("0", 1), ((0,), (1,)), ([0], 1),
+    (0, [1]), ((0, 1), 2), ((0, 1),), (Hostile(), 0), (0, Hostile()), (Hostile(), Hostile()), {0: 1, 1: 0}, "01", 0, 1,
+    LONG, *OTHER_KINDS,
+]
+
+# For three items.
+NO_BOUNDS = [
+    (), (0,), (0, 1), (0, 1, 2), (0, 1, 2, 3, 4), (0, 1, 2, None, None), [0, 1, 2, 3], ((0, 1), 2, 3), ((0, 1, 2, 3),),
+    (0, 0, 2, 3), (1, 1, 0, None), (2, 2, 0, 0), (0, 3, 2, 3), (3, 0, 2, 3), (0, LONG, 2, 3), (-1, 0, 2, 3),
+    (0, -1, 2, 3), (0, 1, -1, 3), (0, 1, -1, None), (0, 1, -3, -1), (0, 1, 0, -1), (0, 1, 3, 2), (0, 1, 1, 0),
+    (0, 1, LONG, LONG - 1), (0, 1, None, 3), (0, 1, None, None), 0, 1, 2, LONG, {0: 1, 1: 2, 2: 3, 3: 4}, "0123",
+    "0-1:2..3", *OTHER_KINDS,
+    *[(wrong, 1, 2, 3) for wrong in [(), (0,), [], [0], *OTHER_KINDS]],
+    *[(0, wrong, 2, 3) for wrong in [(), (1,), [], [1], *OTHER_KINDS]],
+    *[(0, 1, wrong, 3) for wrong in [(), (2,), [], [2], *OTHER_KINDS]],
+    *[(0, 1, 2, wrong) for wrong in [(), (3,), [], [3], *OTHER_KINDS] if wrong is not None],
+    *[(0, 1, 0, wrong) for wrong in [True, False, "", 0.0]],
+]
+
+
+def no_tolds():
+    """Values that are no told bounds for three items."""
+    good = ((0, 1, 2, 3), (2, 1, 0, None), (1, 0, 2, 2))
+    values = [[], list(good), [()], good[0], {}, {good[0]: 1}, 0, 1, "", "0-1:2..3", LONG, *OTHER_KINDS]
+    for wrong in NO_BOUNDS:
+        values.append((wrong,))
+        for at in range(3):
+            values.append((*good[:at], wrong, *good[at + 1:]))
+            values.append((*good[:at], wrong, *good[at:]))
+        values.append((*good, wrong))
+    return values
+
+
+NO_TOLDS = no_tolds()
+
 NO_NUMBERS = [0, -1, -LONG, (), (1,), [], [1], *OTHER_KINDS]
+
+
+def check_errors(test, function, choices):
+    """Call a function with each choice of good and wrong arguments; the first wrong one decides the error.
+
+    For each parameter there are a good value and a list of wrong ones with their errors.
+    """
+    for chosen in product(*[[(good, None), *wrong] for good, wrong in choices]):
+        values = [value for value, _ in chosen]
+        errors = [error for _, error in chosen if error is not None]
+        if not errors:
+            function(*values)
+            continue
+        with test.assertRaises(errors[0]) as caught:
+            function(*values)
+        test.assertIs(type(caught.exception), errors[0])

@@ -4,11 +4,17 @@ import time
 import unittest
 
 import samples
+from commondays import bounds as bounds_file
 from commondays import forks as forks_file
+from commondays import ranges as ranges_file
 from commondays import tables as tables_file
+from commondays import telling as telling_file
+from commondays.bounds import conflict, earliest, is_possible, keeps
 from commondays.errors import DaysError
 from commondays.forks import fork_at, forks, history_of
+from commondays.ranges import day_range, history_on, possibly_one, surely_earlier, surely_not_later, surely_one
 from commondays.tables import bad_triple, day_of, groups, is_history, is_table
+from commondays.telling import count_fewest, determines, fewest_pairs, missing, some_pairs
 
 INTERFACE = {
     tables_file: {
@@ -23,10 +29,34 @@ INTERFACE = {
         "history_of": ["items", "given"],
         "fork_at": ["history", "one", "other"],
     },
+    bounds_file: {
+        "is_possible": ["items", "told"],
+        "conflict": ["items", "told"],
+        "earliest": ["items", "told"],
+        "keeps": ["history", "told"],
+    },
+    ranges_file: {
+        "day_range": ["items", "told", "one", "other"],
+        "history_on": ["items", "told", "one", "other", "day"],
+        "surely_one": ["items", "told", "one", "other", "day"],
+        "possibly_one": ["items", "told", "one", "other", "day"],
+        "surely_earlier": ["items", "told", "pair", "other"],
+        "surely_not_later": ["items", "told", "pair", "other"],
+    },
+    telling_file: {
+        "determines": ["history", "pairs"],
+        "missing": ["history", "pairs"],
+        "fewest_pairs": ["history"],
+        "some_pairs": ["history"],
+        "count_fewest": ["history"],
+    },
 }
 
 HISTORY = ((), (7,), (3, 3))
 FORKS = [(7, ((0,), (1,))), (3, ((0, 1), (2,)))]
+TOLD = ((0, 1, 5, None), (0, 2, 0, 3))
+BROKEN = ((0, 1, 5, None), (1, 2, 7, None), (0, 2, 0, 4))
+BEYOND = {"items": 3, "told": TOLD, "one": 1, "other": 2}
 
 # A function, good arguments in order, and the result.
 CALLS = [
@@ -38,6 +68,26 @@ CALLS = [
     (forks, {"history": HISTORY}, [(3, ((0, 1), (2,))), (7, ((0,), (1,)))]),
     (history_of, {"items": 3, "given": FORKS}, HISTORY),
     (fork_at, {"history": HISTORY, "one": 1, "other": 2}, (3, ((0, 1), (2,)))),
+    (is_possible, {"items": 3, "told": TOLD}, True),
+    (is_possible, {"items": 3, "told": BROKEN}, False),
+    (conflict, {"items": 3, "told": BROKEN}, (2, (0, 1, 2))),
+    (earliest, {"items": 3, "told": TOLD}, ((), (5,), (0, 0))),
+    (keeps, {"history": HISTORY, "told": TOLD}, True),
+    (day_range, BEYOND, (0, 3)),
+    (history_on, {**BEYOND, "day": 2}, ((), (5,), (2, 2))),
+    (surely_one, {**BEYOND, "day": 0}, True),
+    (surely_one, {**BEYOND, "day": 1}, False),
+    (possibly_one, {**BEYOND, "day": 3}, True),
+    (possibly_one, {**BEYOND, "day": 4}, False),
+    (surely_earlier, {"items": 3, "told": TOLD, "pair": (1, 2), "other": (0, 1)}, True),
+    (surely_earlier, {"items": 3, "told": TOLD, "pair": (0, 1), "other": (1, 2)}, False),
+    (surely_not_later, {"items": 3, "told": TOLD, "pair": (0, 2), "other": (1, 2)}, True),
+    (surely_not_later, {"items": 3, "told": TOLD, "pair": (0, 1), "other": (1, 2)}, False),
+    (determines, {"history": HISTORY, "pairs": [(2, 1), (0, 1)]}, True),
+    (missing, {"history": HISTORY, "pairs": [(2, 1), (2, 0)]}, [(7, (0,), (1,))]),
+    (fewest_pairs, {"history": HISTORY}, 2),
+    (some_pairs, {"history": ((), (4,), (4, 4))}, [(0, 1), (0, 2), (1, 2)]),
+    (count_fewest, {"history": HISTORY}, 2),
 ]
 
 # Lists in these arguments could be changed before or while an error is raised.
@@ -59,6 +109,28 @@ WRONG_CALLS = [
     (history_of, [3, [(7, ((0,), (1,))), (3, ([1, 0], (2,)))]]),
     (history_of, [3, [(7, ((0,), (1,))), [3, ((0, 1), (2,))]]]),
     (history_of, [3, [(7, ((0,), (1,))), (3, ((0, 1), (2,))), []]]),
+    (is_possible, [[3], TOLD]),
+    (is_possible, [3, list(TOLD)]),
+    (conflict, [3, ([0, 1, 5, None],)]),
+    (earliest, [3, [[0, 1, 5, None]]]),
+    (earliest, [3, (*BROKEN, [0, 1, 5, None])]),
+    (keeps, [[[], [7]], ()]),
+    (keeps, [HISTORY, list(TOLD)]),
+    (day_range, [3, TOLD, [1], [2]]),
+    (day_range, [3, BROKEN, [1], [2]]),
+    (history_on, [3, TOLD, 1, 2, [2]]),
+    (history_on, [3, list(TOLD), 1, 2, 2]),
+    (surely_one, [3, TOLD, 1, 2, [2]]),
+    (possibly_one, [3, TOLD, 1, [2], 2]),
+    (surely_earlier, [3, TOLD, [1, 2], (0, 1)]),
+    (surely_not_later, [3, TOLD, (0, 2), [1, 2]]),
+    (determines, [[[], [7]], [(0, 1)]]),
+    (determines, [HISTORY, [(0, 1), [0, 2]]]),
+    (missing, [HISTORY, [(2, 1), (0, 1), (1, 1)]]),
+    (missing, [[[], [7]], [(1, 0)]]),
+    (fewest_pairs, [[[], [7]]]),
+    (some_pairs, [[[], [7]]]),
+    (count_fewest, [[[], [7]]]),
 ]
 
 
@@ -111,12 +183,20 @@ class Arguments(unittest.TestCase):
         given.clear()
         self.assertEqual(made, HISTORY)
         self.assertEqual(history_of(3, list(FORKS)), HISTORY)
+        pairs = [(2, 1), (2, 0)]
+        found = missing(HISTORY, pairs)
+        pairs.append((0, 1))
+        self.assertEqual(found, [(7, (0,), (1,))])
+        self.assertEqual(missing(HISTORY, pairs), [])
+        self.assertEqual(missing(HISTORY, pairs[:2]), found)
 
 
 class ReturnedLists(unittest.TestCase):
     def test_new_at_each_call(self):
         for function, given in [(groups, (HISTORY, 5)), (groups, (HISTORY, 0)), (groups, (((),), 3)),
-                                (forks, (HISTORY,)), (forks, (((),),))]:
+                                (forks, (HISTORY,)), (forks, (((),),)), (missing, (HISTORY, [(2, 1)])),
+                                (missing, (HISTORY, [])), (missing, (((),), [])), (missing, (((), (7,)), [(0, 1)])),
+                                (some_pairs, (HISTORY,)), (some_pairs, (((),),))]:
             with self.subTest(function.__name__, given=given):
                 one = function(*given)
                 other = function(*given)
@@ -130,6 +210,12 @@ class ReturnedLists(unittest.TestCase):
     def test_returned_values_may_be_passed_back(self):
         for history in samples.large_histories():
             self.assertEqual(history_of(len(history), forks(history)), history)
+        star = samples.star_history(40, samples.LONG * samples.LONG)
+        self.assertIs(determines(star, some_pairs(star)), True)
+        told = ((0, 1, samples.LONG, None),)
+        later = history_on(20, told, 0, 1, samples.LONG * samples.LONG)
+        self.assertIs(keeps(later, told), True)
+        self.assertEqual(day_range(20, ((0, 1, later[1][0], None),), 1, 0), (later[1][0], None))
 
 
 class RunningTime(unittest.TestCase):
@@ -140,6 +226,20 @@ class RunningTime(unittest.TestCase):
             groups(history, samples.LONG // 2)
             fork_at(history, 0, 19)
             history_of(20, forks(history))
+        self.assertLess(time.process_time() - begin, 10)
+
+    def test_sixty_bounds_with_days_of_forty_digits(self):
+        begin = time.process_time()
+        for history, told in samples.large_possible_bounds(10, 41):
+            one, other, low, _ = told[0]
+            self.assertIsNone(conflict(20, told))
+            conflict(20, (*told[:-1], (one, other, 0, low // 2)))
+            history_on(20, told, one, other, samples.day(history, one, other))
+            surely_earlier(20, told, (0, 1), (1, 2))
+            surely_not_later(20, told, (0, 1), (2, 3))
+            self.assertIs(determines(history, some_pairs(history)), True)
+            self.assertEqual(len(missing(history, [])), fewest_pairs(history))
+            count_fewest(history)
         self.assertLess(time.process_time() - begin, 10)
 
 
