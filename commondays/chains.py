@@ -6,15 +6,20 @@ def low_links(told):
     return [(one, other, low) for one, other, low, _ in told]
 
 
+def table_links(table):
+    """The links that the days of a table make, in its order."""
+    return [(late, early, day) for late, row in enumerate(table) for early, day in enumerate(row)]
+
+
 def chain_table(many, links):
     """The history of the greatest days of chains over these links; a pair without a chain has day 0."""
     leader = list(range(many))
     days = {}
     for one, other, day in sorted(links, key=lambda link: -link[2]):
-        ours = [item for item in range(many) if leader[item] == leader[one]]
-        theirs = [item for item in range(many) if leader[item] == leader[other]]
         # All links with a later day are done, so the first one that joins two groups decides.
-        if one not in theirs:
+        if leader[one] != leader[other]:
+            ours = [item for item in range(many) if leader[item] == leader[one]]
+            theirs = [item for item in range(many) if leader[item] == leader[other]]
             for mine in ours:
                 for yours in theirs:
                     days[max(mine, yours), min(mine, yours)] = day

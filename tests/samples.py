@@ -143,6 +143,11 @@ def greatest_chains(many, told):
     return tuple(tuple(best[i][:i]) for i in range(many))
 
 
+def earliest_of_links(many, links):
+    """The earliest history in which some pairs are one on given days."""
+    return greatest_chains(many, tuple((one, other, when, None) for one, other, when in links))
+
+
 def is_kept_by_some(many, told):
     """Whether the greatest chains leave each told high possible."""
     best = greatest_chains(many, told)

@@ -5,16 +5,22 @@ import unittest
 
 import samples
 from commondays import bounds as bounds_file
+from commondays import counting as counting_file
 from commondays import forks as forks_file
+from commondays import nearest as nearest_file
 from commondays import ranges as ranges_file
 from commondays import tables as tables_file
 from commondays import telling as telling_file
+from commondays import together as together_file
 from commondays.bounds import conflict, earliest, is_possible, keeps
+from commondays.counting import count_histories, histories
 from commondays.errors import DaysError
 from commondays.forks import fork_at, forks, history_of
+from commondays.nearest import least_error, nearest_history, worst_pair
 from commondays.ranges import day_range, history_on, possibly_one, surely_earlier, surely_not_later, surely_one
 from commondays.tables import bad_triple, day_of, groups, is_history, is_table
 from commondays.telling import count_fewest, determines, fewest_pairs, missing, some_pairs
+from commondays.together import greater, lesser, part, put_together
 
 INTERFACE = {
     tables_file: {
@@ -50,12 +56,29 @@ INTERFACE = {
         "some_pairs": ["history"],
         "count_fewest": ["history"],
     },
+    nearest_file: {
+        "least_error": ["table"],
+        "nearest_history": ["table"],
+        "worst_pair": ["table"],
+    },
+    together_file: {
+        "lesser": ["history", "more"],
+        "greater": ["history", "more"],
+        "part": ["history", "chosen"],
+        "put_together": ["items", "parts"],
+    },
+    counting_file: {
+        "count_histories": ["items", "last"],
+        "histories": ["items", "last"],
+    },
 }
 
 HISTORY = ((), (7,), (3, 3))
 FORKS = [(7, ((0,), (1,))), (3, ((0, 1), (2,)))]
 TOLD = ((0, 1, 5, None), (0, 2, 0, 3))
 BROKEN = ((0, 1, 5, None), (1, 2, 7, None), (0, 2, 0, 4))
+FAULTY = ((), (9,), (2, 9))
+PARTS = [((2, 0), ((), (3,))), ((0, 1), ((), (7,)))]
 BEYOND = {"items": 3, "told": TOLD, "one": 1, "other": 2}
 
 # A function, good arguments in order, and the result.
@@ -88,6 +111,15 @@ CALLS = [
     (fewest_pairs, {"history": HISTORY}, 2),
     (some_pairs, {"history": ((), (4,), (4, 4))}, [(0, 1), (0, 2), (1, 2)]),
     (count_fewest, {"history": HISTORY}, 2),
+    (least_error, {"table": FAULTY}, 4),
+    (nearest_history, {"table": FAULTY}, ((), (5,), (5, 5))),
+    (worst_pair, {"table": FAULTY}, (2, 0, (2, 1, 0))),
+    (lesser, {"history": HISTORY}, HISTORY),
+    (greater, {"history": HISTORY}, HISTORY),
+    (part, {"history": HISTORY, "chosen": (2, 0)}, ((), (3,))),
+    (put_together, {"items": 3, "parts": PARTS}, HISTORY),
+    (count_histories, {"items": 3, "last": 1}, 5),
+    (histories, {"items": 2, "last": 2}, [((), (0,)), ((), (1,)), ((), (2,))]),
 ]
 
 # Lists in these arguments could be changed before or while an error is raised.
@@ -131,7 +163,31 @@ WRONG_CALLS = [
     (fewest_pairs, [[[], [7]]]),
     (some_pairs, [[[], [7]]]),
     (count_fewest, [[[], [7]]]),
+    (least_error, [[[], [7]]]),
+    (nearest_history, [((), [7])]),
+    (worst_pair, [[[], [7]]]),
+    (lesser, [HISTORY, [[], [7]], ((), (1,))]),
+    (lesser, [[[], [7]], HISTORY]),
+    (greater, [HISTORY, ((), (1,)), [[], [7]]]),
+    (greater, [[[], [7]]]),
+    (part, [[[], [7]], (0,)]),
+    (part, [HISTORY, [2, 0]]),
+    (put_together, [[3], PARTS]),
+    (put_together, [2, list(PARTS)]),
+    (put_together, [3, [*PARTS, ((2, 0), ((), (4,)))]]),
+    (put_together, [3, [*PARTS, ([2, 0], [[], [4]])]]),
+    (put_together, [3, [*PARTS, [(2, 0), ((), (3,))]]]),
+    (count_histories, [[3], [1]]),
+    (count_histories, [3, [1]]),
+    (histories, [[3], [1]]),
+    (histories, [3, [1]]),
 ]
+
+
+def called(function, *given, **named):
+    """What a function returns, and the list of the values of a generator."""
+    found = function(*given, **named)
+    return list(found) if inspect.isgenerator(found) else found
 
 
 class Interface(unittest.TestCase):
@@ -147,11 +203,11 @@ class Interface(unittest.TestCase):
     def test_calls_by_position_and_by_name(self):
         for function, given, expected in CALLS:
             with self.subTest(function.__name__):
-                self.assertEqual(function(*given.values()), expected)
-                self.assertEqual(function(**given), expected)
-                self.assertEqual(function(**dict(reversed(given.items()))), expected)
+                self.assertEqual(called(function, *given.values()), expected)
+                self.assertEqual(called(function, **given), expected)
+                self.assertEqual(called(function, **dict(reversed(given.items()))), expected)
                 first, *rest = given
-                self.assertEqual(function(given[first], **{name: given[name] for name in rest}), expected)
+                self.assertEqual(called(function, given[first], **{name: given[name] for name in rest}), expected)
 
 
 class Arguments(unittest.TestCase):
@@ -159,7 +215,7 @@ class Arguments(unittest.TestCase):
         for function, given, _ in CALLS:
             with self.subTest(function.__name__):
                 before = copy.deepcopy(given)
-                function(**given)
+                called(function, **given)
                 self.assertEqual(given, before)
 
     def test_unchanged_after_an_error(self):
@@ -167,7 +223,7 @@ class Arguments(unittest.TestCase):
             with self.subTest(function.__name__, given=given):
                 before = copy.deepcopy(given)
                 with self.assertRaises(DaysError):
-                    function(*given)
+                    called(function, *given)
                 self.assertEqual(given, before)
 
     def test_unchanged_after_false(self):
@@ -189,6 +245,11 @@ class Arguments(unittest.TestCase):
         self.assertEqual(found, [(7, (0,), (1,))])
         self.assertEqual(missing(HISTORY, pairs), [])
         self.assertEqual(missing(HISTORY, pairs[:2]), found)
+        parts = list(PARTS)
+        made = put_together(3, parts)
+        parts.clear()
+        self.assertEqual(made, HISTORY)
+        self.assertEqual(put_together(3, parts), ((), (0,), (0, 0)))
 
 
 class ReturnedLists(unittest.TestCase):
@@ -216,6 +277,8 @@ class ReturnedLists(unittest.TestCase):
         later = history_on(20, told, 0, 1, samples.LONG * samples.LONG)
         self.assertIs(keeps(later, told), True)
         self.assertEqual(day_range(20, ((0, 1, later[1][0], None),), 1, 0), (later[1][0], None))
+        self.assertEqual(greater(later, later), later)
+        self.assertIsNone(worst_pair(later))
 
 
 class RunningTime(unittest.TestCase):
@@ -240,6 +303,10 @@ class RunningTime(unittest.TestCase):
             self.assertIs(determines(history, some_pairs(history)), True)
             self.assertEqual(len(missing(history, [])), fewest_pairs(history))
             count_fewest(history)
+            faulty = history[:19] + ((*history[19][:18], 0),)
+            worst_pair(faulty)
+            self.assertEqual(put_together(20, [(tuple(range(20)), nearest_history(faulty))]), nearest_history(faulty))
+            self.assertEqual(greater(*[history] * 20), history)
         self.assertLess(time.process_time() - begin, 10)
 
 
