@@ -41,14 +41,19 @@ def is_pair(value, many):
     return is_item(one, many) and is_item(other, many) and one != other
 
 
-def is_bound(value, many):
-    """Whether a value is a bound for a pair of so many items."""
+def has_bound_form(value):
+    """Whether a value is a bound for a pair of items of any number."""
     if not isinstance(value, tuple) or len(value) != 4:
         return False
     one, other, low, high = value
-    if not is_pair((one, other), many) or not is_day(low):
+    if not is_day(one) or not is_day(other) or one == other or not is_day(low):
         return False
     return high is None or (is_day(high) and low <= high)
+
+
+def is_bound(value, many):
+    """Whether a value is a bound for a pair of so many items."""
+    return has_bound_form(value) and is_pair(value[:2], many)
 
 
 def is_told(value, many):

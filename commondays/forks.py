@@ -4,7 +4,7 @@ from itertools import combinations
 
 from commondays.checks import check_items, is_day, is_number
 from commondays.errors import InvalidForks, InvalidNumber, NotAHistory
-from commondays.tables import groups_on, is_history, pair_day
+from commondays.tables import is_history, pair_day
 
 
 def forks(history):
@@ -12,12 +12,15 @@ def forks(history):
     if not is_history(history):
         raise NotAHistory()
     found = []
-    for day in sorted({last for row in history for last in row}):
-        later = groups_on(history, day + 1)
-        for group in groups_on(history, day):
-            if group not in later:
-                found.append(_fork(day, group, later))
-    return found
+    waiting = [tuple(range(len(history)))]
+    while waiting:
+        group = waiting.pop()
+        if len(group) > 1:
+            fork = _fork(history, group)
+            found.append(fork)
+            waiting.extend(fork[1])
+    # Forks on one day have no common items, so they come in the order of their first items.
+    return sorted(found)
 
 
 def fork_at(history, one, other):
@@ -27,12 +30,22 @@ def fork_at(history, one, other):
     check_items(len(history), one, other)
     day = pair_day(history, one, other)
     group = [item for item in range(len(history)) if item == one or pair_day(history, item, one) >= day]
-    return _fork(day, group, groups_on(history, day + 1))
+    return _fork(history, group)
 
 
-def _fork(day, group, later):
-    """The fork of a group on a day; later are all groups on the next day."""
-    return (day, tuple([branch for branch in later if branch[0] in group]))
+def _fork(history, group):
+    """The fork of a group of several items in ascending order."""
+    first = group[0]
+    # No two of the items part earlier than all of them part from the first one.
+    day = min([history[item][first] for item in group[1:]])
+    branches = []
+    left = group
+    while left:
+        lead = left[0]
+        branch = [item for item in left if item == lead or history[item][lead] > day]
+        branches.append(tuple(branch))
+        left = [item for item in left if item not in branch]
+    return (day, tuple(branches))
 
 
 def history_of(items, given):
@@ -80,21 +93,21 @@ def _joins_all(items, given):
         # Groups have no common items, so this is the order by first items.
         if list(branches) != sorted(branches):
             return False
-        days[tuple(_whole_group(branches))] = day
+        days[whole_group(branches)] = day
     return True
 
 
-def _whole_group(branches):
+def whole_group(branches):
     """The items of all branches, in ascending order."""
-    return sorted([item for branch in branches for item in branch])
+    return tuple(sorted([item for branch in branches for item in branch]))
 
 
 def _table_of(items, given):
     """The table for forks that are known to be those of a history."""
     rows = [[0] * length for length in range(items)]
-    # A later fork overwrites what an earlier one says of pairs in one branch.
-    for day, branches in sorted(given, key=lambda fork: fork[0]):
-        group = _whole_group(branches)
-        for early, late in combinations(group, 2):
-            rows[late][early] = day
+    for day, branches in given:
+        for branch, other in combinations(branches, 2):
+            for one in branch:
+                for two in other:
+                    rows[max(one, two)][min(one, two)] = day
     return tuple([tuple(row) for row in rows])

@@ -22,7 +22,7 @@ def _is_row(value, length):
 
 def is_history(value):
     """Whether any value is a history."""
-    return is_table(value) and _first_bad(value) is None
+    return is_table(value) and _fits(value)
 
 
 def day_of(table, one, other):
@@ -42,16 +42,29 @@ def bad_triple(table):
     """The first triple for which a table is no history, or None."""
     if not is_table(table):
         raise InvalidTable()
-    return _first_bad(table)
-
-
-def _first_bad(table):
-    """The same as bad_triple, for a value that is known to be a table."""
-    for i, j, k in combinations(range(len(table)), 3):
-        days = sorted([table[j][i], table[k][i], table[k][j]])
-        if days[0] != days[1]:
-            return (i, j, k)
+    # A history may have so many items that a look at all its triples takes long.
+    if not _fits(table):
+        for i, j, k in combinations(range(len(table)), 3):
+            days = sorted([table[j][i], table[k][i], table[k][j]])
+            if days[0] != days[1]:
+                return (i, j, k)
     return None
+
+
+def _fits(table):
+    """Whether a table is a history."""
+    return all([_goes_on(table, late) for late in range(1, len(table))])
+
+
+def _goes_on(table, late):
+    """Whether the first rows of a table up to this one are a history if those before it are."""
+    row = table[late]
+    # Next to an item with which it is one the longest, an item has the days of this one, up to their own day.
+    longest = max(row)
+    near = row.index(longest)
+    return all([
+        day == min(longest, pair_day(table, near, early)) for early, day in enumerate(row) if early != near
+    ])
 
 
 def groups(history, day):
@@ -60,11 +73,6 @@ def groups(history, day):
         raise NotAHistory()
     if not is_day(day):
         raise InvalidDay()
-    return groups_on(history, day)
-
-
-def groups_on(history, day):
-    """The same as groups, for arguments that are known to be good."""
     found = []
     for item, row in enumerate(history):
         # An item that is one with an earlier item stands in a group already.

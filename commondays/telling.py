@@ -15,14 +15,13 @@ def missing(history, pairs):
     parted = _parted_branches(history)
     if not isinstance(pairs, list) or not all([is_pair(pair, len(history)) for pair in pairs]):
         raise InvalidPairs()
-    return [(day, branch, other) for day, branch, other in parted if not _is_parted(branch, other, pairs)]
+    told = {(min(pair), max(pair)): True for pair in pairs}
+    return [(day, branch, other) for day, branch, other in parted if not _is_parted(branch, other, told)]
 
 
-def _is_parted(branch, other, pairs):
-    """Whether one of the pairs has an item in each of two branches."""
-    return any([
-        (first in branch and second in other) or (first in other and second in branch) for first, second in pairs
-    ])
+def _is_parted(branch, other, told):
+    """Whether a told pair has an item in each of two branches; the lesser item stands first in a told pair."""
+    return any([(min(one, two), max(one, two)) in told for one in branch for two in other])
 
 
 def fewest_pairs(history):

@@ -150,8 +150,16 @@ def earliest_of_links(many, links):
 
 def is_kept_by_some(many, told):
     """Whether the greatest chains leave each told high possible."""
+    return broken_index(many, told) is None
+
+
+def broken_index(many, told):
+    """The least index of a bound that is not possible beside the others, or None."""
     best = greatest_chains(many, told)
-    return all(high is None or day(best, one, other) <= high for one, other, _, high in told)
+    for index, (one, other, _, high) in enumerate(told):
+        if high is not None and high < day(best, one, other):
+            return index
+    return None
 
 
 def ranges(last):
@@ -236,11 +244,11 @@ NO_PAIRS = [
     LONG, *OTHER_KINDS,
 ]
 
-# For three items.
-NO_BOUNDS = [
+# For any number of items.
+NO_BOUNDS_OF_ANY_NUMBER = [
     (), (0,), (0, 1), (0, 1, 2), (0, 1, 2, 3, 4), (0, 1, 2, None, None), [0, 1, 2, 3], ((0, 1), 2, 3), ((0, 1, 2, 3),),
-    (0, 0, 2, 3), (1, 1, 0, None), (2, 2, 0, 0), (0, 3, 2, 3), (3, 0, 2, 3), (0, LONG, 2, 3), (-1, 0, 2, 3),
-    (0, -1, 2, 3), (0, 1, -1, 3), (0, 1, -1, None), (0, 1, -3, -1), (0, 1, 0, -1), (0, 1, 3, 2), (0, 1, 1, 0),
+    (0, 0, 2, 3), (1, 1, 0, None), (2, 2, 0, 0), (-1, 0, 2, 3), (0, -1, 2, 3), (0, 1, -1, 3),
+    (0, 1, -1, None), (0, 1, -3, -1), (0, 1, 0, -1), (0, 1, 3, 2), (0, 1, 1, 0),
     (0, 1, LONG, LONG - 1), (0, 1, None, 3), (0, 1, None, None), 0, 1, 2, LONG, {0: 1, 1: 2, 2: 3, 3: 4}, "0123",
     "0-1:2..3", *OTHER_KINDS,
     *[(wrong, 1, 2, 3) for wrong in [(), (0,), [], [0], *OTHER_KINDS]],
@@ -250,12 +258,15 @@ NO_BOUNDS = [
     *[(0, 1, 0, wrong) for wrong in [True, False, "", 0.0]],
 ]
 
+# For three items.
+NO_BOUNDS = NO_BOUNDS_OF_ANY_NUMBER + [(0, 3, 2, 3), (3, 0, 2, 3), (0, LONG, 2, 3)]
 
-def no_tolds():
-    """Values that are no told bounds for three items."""
+
+def no_tolds(no_bounds):
+    """Values that are no told bounds, with one of the given values that are no bounds."""
     good = ((0, 1, 2, 3), (2, 1, 0, None), (1, 0, 2, 2))
     values = [[], list(good), [()], good[0], {}, {good[0]: 1}, 0, 1, "", "0-1:2..3", LONG, *OTHER_KINDS]
-    for wrong in NO_BOUNDS:
+    for wrong in no_bounds:
         values.append((wrong,))
         for at in range(3):
             values.append((*good[:at], wrong, *good[at + 1:]))
@@ -264,7 +275,10 @@ def no_tolds():
     return values
 
 
-NO_TOLDS = no_tolds()
+NO_TOLDS_OF_ANY_NUMBER = no_tolds(NO_BOUNDS_OF_ANY_NUMBER)
+
+# For three items.
+NO_TOLDS = no_tolds(NO_BOUNDS)
 
 NO_NUMBERS = [0, -1, -LONG, (), (1,), [], [1], *OTHER_KINDS]
 

@@ -7,19 +7,27 @@ import samples
 from commondays import bounds as bounds_file
 from commondays import counting as counting_file
 from commondays import forks as forks_file
+from commondays import kinds as kinds_file
+from commondays import live as live_file
 from commondays import nearest as nearest_file
+from commondays import objects as objects_file
 from commondays import ranges as ranges_file
 from commondays import tables as tables_file
 from commondays import telling as telling_file
+from commondays import texts as texts_file
 from commondays import together as together_file
 from commondays.bounds import conflict, earliest, is_possible, keeps
 from commondays.counting import count_histories, histories
 from commondays.errors import DaysError
 from commondays.forks import fork_at, forks, history_of
+from commondays.kinds import ExactTold, StrictExactTold, StrictTold
+from commondays.live import LiveTold
 from commondays.nearest import least_error, nearest_history, worst_pair
+from commondays.objects import History, Told
 from commondays.ranges import day_range, history_on, possibly_one, surely_earlier, surely_not_later, surely_one
 from commondays.tables import bad_triple, day_of, groups, is_history, is_table
 from commondays.telling import count_fewest, determines, fewest_pairs, missing, some_pairs
+from commondays.texts import format_history, format_told, parse_history, parse_told
 from commondays.together import greater, lesser, part, put_together
 
 INTERFACE = {
@@ -71,6 +79,47 @@ INTERFACE = {
         "count_histories": ["items", "last"],
         "histories": ["items", "last"],
     },
+    texts_file: {
+        "format_history": ["history"],
+        "format_told": ["told"],
+        "parse_history": ["text"],
+        "parse_told": ["text"],
+    },
+}
+
+LIVE = {
+    "tell": ["self", "one", "other", "low", "high"],
+    "tell_all": ["self", "bounds"],
+    "undo": ["self"],
+    "try_tells": ["self", "bounds"],
+    "told_words": ["self"],
+    "range_of": ["self", "one", "other"],
+    "__len__": ["self"],
+}
+
+# The arguments of a class, its methods with theirs, and its properties.
+CLASSES = {
+    objects_file: {
+        "History": (["table"], {
+            "__call__": ["self", "one", "other"],
+            "__and__": ["self", "other"],
+            "__or__": ["self", "other"],
+            "__eq__": ["self", "other"],
+            "__len__": ["self"],
+        }, ["table"]),
+        "Told": (["items", "bounds"], {
+            "__add__": ["self", "other"],
+            "__contains__": ["self", "value"],
+            "__len__": ["self"],
+            "__eq__": ["self", "other"],
+        }, ["bounds"]),
+    },
+    live_file: {"LiveTold": (["items"], LIVE, ["bounds_now", "possible_now"])},
+    kinds_file: {
+        "StrictTold": (["items"], {"told_words": ["self"]}, []),
+        "ExactTold": (["items"], {"told_words": ["self"]}, []),
+        "StrictExactTold": (["items"], {}, []),
+    },
 }
 
 HISTORY = ((), (7,), (3, 3))
@@ -81,7 +130,7 @@ FAULTY = ((), (9,), (2, 9))
 PARTS = [((2, 0), ((), (3,))), ((0, 1), ((), (7,)))]
 BEYOND = {"items": 3, "told": TOLD, "one": 1, "other": 2}
 
-# A function, good arguments in order, and the result.
+# A function, good arguments in order, and the result; None where it is another one each time.
 CALLS = [
     (is_table, {"value": HISTORY}, True),
     (is_history, {"value": HISTORY}, True),
@@ -120,6 +169,21 @@ CALLS = [
     (put_together, {"items": 3, "parts": PARTS}, HISTORY),
     (count_histories, {"items": 3, "last": 1}, 5),
     (histories, {"items": 2, "last": 2}, [((), (0,)), ((), (1,)), ((), (2,))]),
+    (format_history, {"history": HISTORY}, "((0 1)7 2)3"),
+    (format_told, {"told": TOLD}, "0-1:5.. 0-2:0..3"),
+    (parse_history, {"text": "((0 1)7 2)3"}, HISTORY),
+    (parse_told, {"text": "0-1:5.. 0-2:0..3"}, TOLD),
+    (History, {"table": HISTORY}, History(HISTORY)),
+    (History(HISTORY), {"one": 2, "other": 0}, 3),
+    (Told, {"items": 3, "bounds": TOLD}, Told(3, TOLD)),
+    (LiveTold(3).tell, {"one": 0, "other": 1}, None),
+    (LiveTold(3).tell, {"one": 0, "other": 1, "low": 2, "high": 2}, None),
+    (LiveTold(3).range_of, {"one": 0, "other": 1}, (0, None)),
+    (LiveTold.is_valid, {"items": 3, "value": BROKEN}, True),
+    (LiveTold.read, {"items": 3, "text": "0-1:5.."}, None),
+    (StrictTold, {"items": 3}, None),
+    (ExactTold, {"items": 3}, None),
+    (StrictExactTold, {"items": 3}, None),
 ]
 
 # Lists in these arguments could be changed before or while an error is raised.
@@ -181,6 +245,26 @@ WRONG_CALLS = [
     (count_histories, [3, [1]]),
     (histories, [[3], [1]]),
     (histories, [3, [1]]),
+    (format_history, [[[], [7]]]),
+    (format_told, [list(TOLD)]),
+    (format_told, [([0, 1, 5, None],)]),
+    (parse_history, [["0"]]),
+    (parse_told, [["0-1:5.."]]),
+    (History, [[[], [7]]]),
+    (History(HISTORY), [[0], [1]]),
+    (History(HISTORY).__and__, [[HISTORY]]),
+    (History(HISTORY).__or__, [[HISTORY]]),
+    (Told, [[3], TOLD]),
+    (Told, [3, list(TOLD)]),
+    (Told(3, TOLD).__add__, [list(TOLD)]),
+    (LiveTold, [[3]]),
+    (LiveTold(3).tell, [[0], [1]]),
+    (LiveTold(3).tell_all, [TOLD[0], [0, 2, 0, 3]]),
+    (LiveTold(3).try_tells, [TOLD[0], [0, 2, 0, 3]]),
+    (LiveTold(3).range_of, [[0], [1]]),
+    (LiveTold.read, [3, ["0-1:5.."]]),
+    (StrictTold(3).tell_all, [*BROKEN]),
+    (ExactTold(3).tell_all, [*BROKEN]),
 ]
 
 
@@ -200,27 +284,50 @@ class Interface(unittest.TestCase):
                     self.assertEqual(function.__module__, file.__name__)
                     self.assertEqual(list(inspect.signature(function).parameters), names)
 
+    def test_classes(self):
+        for file, classes in CLASSES.items():
+            for name, (names, methods, properties) in classes.items():
+                with self.subTest(name):
+                    kind = getattr(file, name)
+                    self.assertTrue(inspect.isclass(kind))
+                    self.assertEqual(kind.__module__, file.__name__)
+                    self.assertEqual(list(inspect.signature(kind).parameters), names)
+                    for word in properties:
+                        self.assertIsInstance(vars(kind)[word], property)
+                    for word, expected in methods.items():
+                        self.assertEqual(list(inspect.signature(vars(kind)[word]).parameters), expected)
+
+    def test_methods_of_the_class(self):
+        self.assertIsInstance(vars(LiveTold)["read"], classmethod)
+        self.assertEqual(list(inspect.signature(LiveTold.read).parameters), ["items", "text"])
+        self.assertIsInstance(vars(LiveTold)["is_valid"], staticmethod)
+        self.assertEqual(list(inspect.signature(LiveTold.is_valid).parameters), ["items", "value"])
+
     def test_calls_by_position_and_by_name(self):
         for function, given, expected in CALLS:
-            with self.subTest(function.__name__):
-                self.assertEqual(called(function, *given.values()), expected)
-                self.assertEqual(called(function, **given), expected)
-                self.assertEqual(called(function, **dict(reversed(given.items()))), expected)
+            with self.subTest(function=function, given=given):
                 first, *rest = given
-                self.assertEqual(called(function, given[first], **{name: given[name] for name in rest}), expected)
+                for found in [
+                    called(function, *given.values()),
+                    called(function, **given),
+                    called(function, **dict(reversed(given.items()))),
+                    called(function, given[first], **{name: given[name] for name in rest}),
+                ]:
+                    if expected is not None:
+                        self.assertEqual(found, expected)
 
 
 class Arguments(unittest.TestCase):
     def test_unchanged_after_a_call(self):
         for function, given, _ in CALLS:
-            with self.subTest(function.__name__):
+            with self.subTest(function=function):
                 before = copy.deepcopy(given)
                 called(function, **given)
                 self.assertEqual(given, before)
 
     def test_unchanged_after_an_error(self):
         for function, given in WRONG_CALLS:
-            with self.subTest(function.__name__, given=given):
+            with self.subTest(function=function, given=given):
                 before = copy.deepcopy(given)
                 with self.assertRaises(DaysError):
                     called(function, *given)

@@ -26,6 +26,8 @@ LIBRARY = {
     "collections": ["defaultdict", "deque"],
 }
 
+OPERATORS = "__init__ __call__ __eq__ __len__ __contains__ __add__ __and__ __or__".split()
+
 
 def files():
     return sorted(path for path in PACKAGE.rglob("*") if "__pycache__" not in path.parts)
@@ -62,6 +64,29 @@ class Rules(unittest.TestCase):
                 for word in node.names:
                     self.assertIn(word.name, LIBRARY.get(node.module, []), name)
                     self.assertIsNone(word.asname)
+
+    def test_imports_are_used(self):
+        for path, tree in trees():
+            used = {node.id for node in ast.walk(tree) if isinstance(node, ast.Name)}
+            for node in ast.walk(tree):
+                if isinstance(node, ast.ImportFrom):
+                    self.assertLessEqual({word.name for word in node.names}, used, path)
+
+    def test_double_underscores(self):
+        for name, node in nodes(ast.FunctionDef):
+            if node.name.startswith("__"):
+                self.assertIn(node.name, OPERATORS, (name, node.lineno))
+
+    def test_lists_in_place_of_generator_expressions(self):
+        # Beside classes with an own __eq__ they are not taken by any, all, min, max, sum and sorted.
+        self.assertEqual(nodes(ast.GeneratorExp), [])
+
+    def test_super_is_asked_for_methods(self):
+        for path, tree in trees():
+            asked = [node.value for node in ast.walk(tree) if isinstance(node, ast.Attribute)]
+            for node in ast.walk(tree):
+                if isinstance(node, ast.Call) and isinstance(node.func, ast.Name) and node.func.id == "super":
+                    self.assertIn(node, asked, (path, node.lineno))
 
     def test_names(self):
         for name, node in nodes(ast.Name):
