@@ -78,7 +78,8 @@ class SameCalls(unittest.TestCase):
         for kind in KINDS:
             live, model = kind(3), Model(kind, 3)
             check_call(self, live, model, "tell_all", *EXACT)
-            for given in [(None,), OPEN, ((0, 2, 4, 4),), (*EXACT, (0, 2, 4, 4)), BROKEN, BROKEN_EXACT, ((0, 2, 4, 9),)]:
+            for given in [(None,), OPEN, ((0, 2, 4, 4),), (*EXACT, (0, 2, 4, 4)), BROKEN, BROKEN_EXACT,
+                          ((0, 2, 4, 9),)]:
                 for name in ["try_tells", "tell_all"]:
                     came = check_call(self, live, model, name, *given)
                     check_state(self, live, model)

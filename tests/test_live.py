@@ -56,7 +56,8 @@ class Calls(unittest.TestCase):
         self.assertEqual(live.tell(high=7, low=7, other=0, one=2), 6)
         self.assertEqual(live.tell(0, other=1, low=3), 7)
         self.assertEqual(live.bounds_now, (
-            (0, 1, 0, None), (1, 2, 4, None), (1, 2, 4, 9), (1, 2, 0, 9), (0, 2, 1, None), (2, 0, 7, 7), (0, 1, 3, None),
+            (0, 1, 0, None), (1, 2, 4, None), (1, 2, 4, 9), (1, 2, 0, 9), (0, 2, 1, None), (2, 0, 7, 7),
+            (0, 1, 3, None),
         ))
         self.assertEqual(len(live), 7)
         self.assertEqual(str(inspect.signature(LiveTold.tell)), "(self, one, other, low=0, high=None)")
@@ -300,9 +301,10 @@ class Errors(unittest.TestCase):
             if type(wrong) is tuple and len(wrong) == 4:
                 with self.subTest(at):
                     self.refuse(live, live.tell, *wrong)
-        for given in [(0, 0), (0, 3), (3, 0), (-1, 0), (0, True), ("0", 1), (None, 1), (0, None), (0, 1, -1), (0, 1, None),
-                      (0, 1, True), (0, 1, 5, 4), (0, 1, 0, False), (0, 1, 0, -1), (0, 0, -1, -2), (Hostile(), 1),
-                      (0, 1, 0, Hostile()), ([0], 1), (0, [1]), ((0, 1), 2), (0, 1, [0]), (0, 1, 0, [1])]:
+        for given in [(0, 0), (0, 3), (3, 0), (-1, 0), (0, True), ("0", 1), (None, 1), (0, None), (0, 1, -1),
+                      (0, 1, None), (0, 1, True), (0, 1, 5, 4), (0, 1, 0, False), (0, 1, 0, -1), (0, 0, -1, -2),
+                      (Hostile(), 1), (0, 1, 0, Hostile()), ([0], 1), (0, [1]), ((0, 1), 2), (0, 1, [0]),
+                      (0, 1, 0, [1])]:
             self.refuse(live, live.tell, *given)
         with self.assertRaises(InvalidBound):
             live.tell(0, 1, high=-1)
