@@ -61,7 +61,7 @@ def _goes_on(table, late):
     row = table[late]
     # Next to an item with which it is one the longest, an item has the days of this one, up to their own day.
     longest = max(row)
-    near = row.index(longest)
+    near = [early for early, day in enumerate(row) if day == longest][0]
     return all([
         day == min(longest, pair_day(table, near, early)) for early, day in enumerate(row) if early != near
     ])
